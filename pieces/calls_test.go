@@ -33,15 +33,15 @@ func shapes(t *testing.T) map[string]func() *both {
 }
 
 func TestP1InsertAtAllNumbers(t *testing.T) {
-	for name, make := range shapes(t) {
+	for name, build := range shapes(t) {
 		t.Run(name, func(t *testing.T) {
-			b := make()
+			b := build()
 			for _, pos := range edges(b.tree.Size()) {
 				for _, off := range []int{math.MinInt, -1, 0, 1, api.MaxOffset, api.MaxOffset + 1, 1<<32 + 1, math.MaxInt} {
 					for _, n := range []int{math.MinInt, -1, 0, 1, 2, api.MaxLength, api.MaxLength + 1, 1<<32 + 1, math.MaxInt} {
 						if b.insert(pos, api.Piece{Off: off, Len: n}) == api.OK {
 							b.same()
-							b = make()
+							b = build()
 						}
 					}
 				}
@@ -52,15 +52,15 @@ func TestP1InsertAtAllNumbers(t *testing.T) {
 }
 
 func TestP1DeleteAtAllNumbers(t *testing.T) {
-	for name, make := range shapes(t) {
+	for name, build := range shapes(t) {
 		t.Run(name, func(t *testing.T) {
-			b := make()
+			b := build()
 			for _, pos := range edges(b.tree.Size()) {
 				for _, n := range edges(b.tree.Size()) {
 					_, e := b.delete(pos, n)
 					b.same()
 					if e == api.OK && n > 0 {
-						b = make()
+						b = build()
 					}
 				}
 			}
@@ -69,9 +69,9 @@ func TestP1DeleteAtAllNumbers(t *testing.T) {
 }
 
 func TestP1FindAtAllNumbers(t *testing.T) {
-	for name, make := range shapes(t) {
+	for name, build := range shapes(t) {
 		t.Run(name, func(t *testing.T) {
-			b := make()
+			b := build()
 			for _, pos := range edges(b.tree.Size()) {
 				b.find(pos)
 			}

@@ -58,7 +58,7 @@ func told(seed int64, beside func()) []any {
 			out = append(out, x.Insert(pos, api.Piece{Off: r.Intn(50), Len: r.Intn(9)}))
 		} else {
 			list, e := x.Delete(pos, r.Intn(15))
-			out = append(out, slices.Clip(append([]api.Piece{}, list...)), e)
+			out = append(out, append([]api.Piece{}, list...), e)
 		}
 		beside()
 		p, e := x.Find(pos)

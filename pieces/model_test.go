@@ -77,10 +77,8 @@ func (m *model) delete(pos, n int) ([]api.Piece, api.Errno) {
 	if n == 0 {
 		return nil, api.OK
 	}
-	first := model{}
-	var from, to int
-	first.list, from = m.parted(pos)
-	list, to := first.parted(pos + n)
+	once, from := m.parted(pos)
+	list, to := (&model{once}).parted(pos + n)
 	gone := slices.Clone(list[from:to])
 	list = slices.Delete(list, from, to)
 	if len(list) > 4096 {
