@@ -1,0 +1,78 @@
+// Package ledger: what a store has on its disk: the buffer, the checkpoint and the journal: see DOC.md, P7, P8 and P12.
+package ledger
+
+import (
+	"strconv"
+	"strings"
+
+	"quill/api"
+	"quill/disk"
+	"quill/draft"
+)
+
+// The numbers of the files.
+const (
+	bufferFile     = 1
+	checkpointFile = 2
+	journalFile    = 10 // of the epoch 0
+)
+
+// Error says what the ledger was at.
+type Error struct {
+	At  string
+	Err error
+}
+
+func (e *Error) Error() string { return e.At + ": " + e.Err.Error() }
+
+func (e *Error) Unwrap() error { return e.Err }
+
+// at wraps err, if there is one.
+func at(where string, err error) error {
+	if err == nil {
+		return nil
+	}
+	return &Error{where, err}
+}
+
+// Ledger is the files of a disk in some epoch.
+type Ledger struct {
+	disk  *disk.Disk
+	epoch int
+}
+
+func (l *Ledger) journal() int { return journalFile + l.epoch }
+
+// Write writes a change down, the one of that number; text is what it inserts.
+func (l *Ledger) Write(done int, c draft.Change, text string) error {
+	where := "change " + strconv.Itoa(done)
+	if text != "" {
+		if err := l.disk.Append(bufferFile, []byte(text)); err != nil {
+			return at(where, err)
+		}
+	}
+	return at(where, l.disk.Append(l.journal(), record(done, c)))
+}
+
+// Sync makes all that was written outlive a crash.
+func (l *Ledger) Sync() error {
+	for _, number := range []int{bufferFile, l.journal()} {
+		if l.disk.Length(number) == 0 {
+			continue
+		}
+		if err := l.disk.Flush(number); err != nil {
+			return at("sync", err)
+		}
+	}
+	return nil
+}
+
+// Text tells the bytes of pieces of the buffer, one behind the other.
+func (l *Ledger) Text(list []api.Piece) string {
+	buffer := l.disk.Bytes(bufferFile)
+	var text strings.Builder
+	for _, p := range list {
+		text.Write(buffer[p.Off : p.Off+p.Len])
+	}
+	return text.String()
+}
