@@ -1,4 +1,4 @@
-// Package disk: the disk of a store, with its files and its steps: see DOC.md, 'Words', P9 and P11.
+// Package disk: the disk of a store, with its files and its steps: see DOC.md, 'Words' and P9 to P11.
 package disk
 
 import (
@@ -8,10 +8,12 @@ import (
 	"quill/api"
 )
 
-// Disk is files, in the order of their numbers.
+// Disk is files, in the order of their numbers, and what was asked to go wrong.
 type Disk struct {
-	room  int
-	files []*file
+	room    int
+	files   []*file
+	refusal plan
+	crash   crash
 }
 
 type file struct {

@@ -54,11 +54,75 @@ func TestP12StepsLeaveRoom(t *testing.T) {
 	has(t, d, api.File{Number: 1, Bytes: "ajk"}, api.File{Number: 3, Bytes: "ghi"})
 }
 
-// TestP12StepsOfNoFile do nothing.
+// TestP12StepsOfNoFile do nothing, and count as none.
 func TestP12StepsOfNoFile(t *testing.T) {
 	d := disk.New(6)
+	d.Crash(0, 0, 0)
 	does(t, d.Flush(1))
 	does(t, d.Cut(1, 1))
+	does(t, d.Remove(1))
+	has(t, d)
+	stops(t, d.Append(1, []byte("a")), "append to", 1)
+}
+
+// stops looks that the machine stopped ahead of that step of that file.
+func stops(t *testing.T, err error, name string, number int) {
+	t.Helper()
+	var step *disk.StepError
+	if !errors.Is(err, disk.ErrStopped) || errors.Is(err, disk.ErrRefused) || !errors.As(err, &step) {
+		t.Fatalf("the error is %v, want that the machine stopped", err)
+	}
+	if step.Step != name || step.Number != number {
+		t.Errorf("the error %q says not that it was: %s %d", err, name, number)
+	}
+}
+
+// TestP10EachStep: the machine stops ahead of every kind of step, and then no more.
+func TestP10EachStep(t *testing.T) {
+	for name, step := range map[string]func(d *disk.Disk) error{
+		"append to": func(d *disk.Disk) error { return d.Append(7, []byte("xyz")) },
+		"flush":     func(d *disk.Disk) error { return d.Flush(7) },
+		"cut":       func(d *disk.Disk) error { return d.Cut(7, 1) },
+		"remove":    func(d *disk.Disk) error { return d.Remove(7) },
+	} {
+		d := disk.New(100)
+		does(t, d.Append(1, []byte("abcd")))
+		does(t, d.Append(7, []byte("ef")))
+		does(t, d.Flush(7))
+		does(t, d.Append(7, []byte("ghij")))
+		d.Crash(0, 2, 3)
+		stops(t, step(d), name, 7)
+		has(t, d, api.File{Number: 1, Bytes: "ab"}, api.File{Number: 7, Bytes: "efghi"})
+		does(t, step(d))
+		d.Crash(0, 0, 0)
+		stops(t, d.Flush(1), "flush", 1)
+	}
+}
+
+// TestP10OneAndRest: file 1 alone is the one, and 10 or 11 are none of it.
+func TestP10OneAndRest(t *testing.T) {
+	d := disk.New(100)
+	for _, number := range []int{0, 1, 2, 3, 10, 11} {
+		does(t, d.Append(number, []byte("abc")))
+	}
+	d.Crash(0, 0, 2)
+	stops(t, d.Remove(0), "remove", 0)
+	ab := func(number int) api.File { return api.File{Number: number, Bytes: "ab"} }
+	has(t, d, ab(0), ab(2), ab(3), ab(10), ab(11))
+}
+
+// TestP9RefuseOfAnAppendAlone: other steps are done, and not counted.
+func TestP9RefuseOfAnAppendAlone(t *testing.T) {
+	d := disk.New(100)
+	d.Refuse(1)
+	does(t, d.Append(1, []byte("abc")))
+	does(t, d.Flush(1))
+	does(t, d.Cut(1, 2))
+	if err := d.Append(1, []byte("d")); !errors.Is(err, disk.ErrRefused) || errors.Is(err, disk.ErrStopped) {
+		t.Fatalf("Append = %v, want a refusal", err)
+	}
+	has(t, d, api.File{Number: 1, Bytes: "ab"})
+	does(t, d.Append(1, []byte("d")))
 	does(t, d.Remove(1))
 	has(t, d)
 }

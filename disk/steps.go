@@ -1,13 +1,9 @@
 package disk
 
 import (
-	"errors"
 	"slices"
 	"strconv"
 )
-
-// ErrRefused is a step that the disk does not do, and that changes nothing.
-var ErrRefused = errors.New("the disk refuses it")
 
 // StepError says which step it was, and of which file.
 type StepError struct {
@@ -24,39 +20,48 @@ func (e *StepError) Unwrap() error { return e.Err }
 
 // Append lays bytes behind those of a file, which is made if it is not there.
 func (d *Disk) Append(number int, bytes []byte) error {
-	if len(bytes) > d.room-d.used() {
-		return &StepError{"append to", number, ErrRefused}
+	const name = "append to"
+	// A refused append is no step, so the machine does not stop ahead of it.
+	if d.refuses(len(bytes)) {
+		return &StepError{name, number, ErrRefused}
 	}
-	i, there := d.find(number)
-	if !there {
-		d.files = slices.Insert(d.files, i, &file{number: number})
-	}
-	f := d.files[i]
-	f.bytes = append(f.bytes, bytes...)
-	return nil
+	return d.step(name, number, func() {
+		i, there := d.find(number)
+		if !there {
+			d.files = slices.Insert(d.files, i, &file{number: number})
+		}
+		f := d.files[i]
+		f.bytes = append(f.bytes, bytes...)
+	})
 }
 
 // Flush makes all bytes of a file outlive a crash.
 func (d *Disk) Flush(number int) error {
-	if i, there := d.find(number); there {
-		d.files[i].flushed = len(d.files[i].bytes)
-	}
-	return nil
+	return d.stepOf("flush", number, func(i int) { d.files[i].flush() })
 }
 
 // Cut leaves the first n bytes of a file that has more, and flushes them with that.
 func (d *Disk) Cut(number int, n int) error {
-	if i, there := d.find(number); there {
-		f := d.files[i]
-		f.bytes, f.flushed = slices.Clone(f.bytes[:n]), n
-	}
-	return nil
+	return d.stepOf("cut", number, func(i int) { d.files[i].cut(n) })
 }
 
 // Remove takes a file away.
 func (d *Disk) Remove(number int) error {
-	if i, there := d.find(number); there {
-		d.files = slices.Delete(d.files, i, i+1)
+	return d.stepOf("remove", number, func(i int) { d.files = slices.Delete(d.files, i, i+1) })
+}
+
+// stepOf does a step of a file that must be there: of none there is no step.
+func (d *Disk) stepOf(name string, number int, do func(i int)) error {
+	i, there := d.find(number)
+	if !there {
+		return nil
 	}
-	return nil
+	return d.step(name, number, func() { do(i) })
+}
+
+func (f *file) flush() { f.flushed = len(f.bytes) }
+
+func (f *file) cut(n int) {
+	f.bytes = slices.Clone(f.bytes[:n])
+	f.flush()
 }

@@ -54,12 +54,10 @@ func (l *Ledger) Write(done int, c draft.Change, text string) error {
 	return at(where, l.disk.Append(l.journal(), record(done, c)))
 }
 
-// Sync makes all that was written outlive a crash.
+// Sync makes all that was written outlive a crash. (Of a file that is not there
+// the disk does no step.)
 func (l *Ledger) Sync() error {
 	for _, number := range []int{bufferFile, l.journal()} {
-		if l.disk.Length(number) == 0 {
-			continue
-		}
 		if err := l.disk.Flush(number); err != nil {
 			return at("sync", err)
 		}

@@ -84,12 +84,7 @@ func (b *both) open(want api.Errno) {
 
 func (b *both) close(want api.Errno) {
 	b.t.Helper()
-	model := api.OK
-	if !b.model.open {
-		model = api.ErrClosed
-	}
-	b.model.open = false
-	b.check("Close", b.store.Close(), model, want)
+	b.check("Close", b.store.Close(), b.model.close(), want)
 }
 
 func (b *both) reopen() {
@@ -125,7 +120,17 @@ func (b *both) redo(want api.Errno) {
 
 func (b *both) sync(want api.Errno) {
 	b.t.Helper()
-	b.check("Sync", b.store.Sync(), b.model.mayWrite(), want)
+	b.check("Sync", b.store.Sync(), b.model.sync(), want)
+}
+
+func (b *both) crash(want api.Errno, after, one, rest int) {
+	b.t.Helper()
+	b.check("Crash", b.store.Crash(after, one, rest), b.model.willCrash(after, one, rest), want)
+}
+
+func (b *both) refuse(want api.Errno, after int) {
+	b.t.Helper()
+	b.check("Refuse", b.store.Refuse(after), b.model.willRefuse(after), want)
 }
 
 // same compares the files, the text and Done.
@@ -205,6 +210,30 @@ func (b *both) redoes(texts ...string) {
 		b.is(text, b.model.done)
 	}
 	b.redo(api.ErrNothing)
+}
+
+// call is a call of a store with its model, and how many appends and other steps it does.
+type call struct {
+	name    string
+	appends int
+	others  int
+	make    func(b *both, want api.Errno)
+}
+
+// changes is calls one after the other: the first is OK in an empty store, each
+// other one behind those ahead of it.
+func changes() []call {
+	return []call{
+		{"Insert", 2, 0, func(b *both, want api.Errno) { b.insert(want, 0, "hello") }},
+		{"Insert within", 2, 0, func(b *both, want api.Errno) { b.insert(want, 2, "XYZ") }},
+		{"Delete", 1, 0, func(b *both, want api.Errno) { b.delete(want, 1, 5) }},
+		{"Undo", 1, 0, func(b *both, want api.Errno) { b.undo(want) }},
+		{"Sync", 0, 2, func(b *both, want api.Errno) { b.sync(want) }},
+		{"Redo", 1, 0, func(b *both, want api.Errno) { b.redo(want) }},
+		{"Undo again", 1, 0, func(b *both, want api.Errno) { b.undo(want) }},
+		{"Insert over it", 2, 0, func(b *both, want api.Errno) { b.insert(want, 8, "!") }},
+		{"Sync again", 0, 2, func(b *both, want api.Errno) { b.sync(want) }},
+	}
 }
 
 // short tells files by their numbers, lengths and first bytes.

@@ -2,6 +2,7 @@ package quill_test
 
 import (
 	"math"
+	"math/rand"
 	"strings"
 	"testing"
 
@@ -84,11 +85,71 @@ func TestP1AllNumbers(t *testing.T) {
 	}
 }
 
+// TestP1AllNumbersOfCrashAndRefuse asks for crashes and refusals of all kinds,
+// in stores of all kinds, and then makes calls.
+func TestP1AllNumbersOfCrashAndRefuse(t *testing.T) {
+	for name, b := range places(t) {
+		t.Run(name, func(t *testing.T) {
+			b.t = t
+			for _, after := range numbers() {
+				b.agree("Refuse", b.model.willRefuse(after), b.store.Refuse(after))
+				for _, one := range numbers() {
+					for _, rest := range numbers() {
+						b.agree("Crash", b.model.willCrash(after, one, rest), b.store.Crash(after, one, rest))
+					}
+				}
+			}
+			b.same()
+			b.crash(api.OK, 2, math.MaxInt, math.MaxInt)
+			b.refuse(api.OK, 3)
+			r := rand.New(rand.NewSource(1))
+			for range 100 {
+				b.anyCall(r)
+			}
+		})
+	}
+}
+
+// TestP1CrashesOfAllNumbers has each of them come, as far as it may.
+func TestP1CrashesOfAllNumbers(t *testing.T) {
+	for _, after := range []int{0, 1, 2, 3, math.MaxInt} {
+		for _, one := range numbers() {
+			for _, rest := range numbers() {
+				b := opened(t, 100, 5, 1000)
+				b.insert(api.OK, 0, "hello")
+				b.agree("Crash", b.model.willCrash(after, one, rest), b.store.Crash(after, one, rest))
+				for range 2 {
+					b.agree("Delete", b.model.change("D", 0, 1, ""), b.store.Delete(0, 1))
+					b.agree("Sync", b.model.sync(), b.store.Sync())
+					b.agree("Open", b.model.openUp(), b.store.Open())
+					b.same()
+				}
+			}
+		}
+	}
+}
+
+// TestP1RefusalsOfAllNumbers: the same of refusals.
+func TestP1RefusalsOfAllNumbers(t *testing.T) {
+	for _, after := range numbers() {
+		b := opened(t, 5000, 5, 100000)
+		b.agree("Refuse", b.model.willRefuse(after), b.store.Refuse(after))
+		for i := range 60 {
+			b.agree("Insert", b.model.change("I", i, 1, "a"), b.store.Insert(i, "a"))
+		}
+		b.same()
+		b.reopen()
+		b.insert(api.OK, 0, "b")
+	}
+}
+
 // read compares Read with the model's text.
 func (b *both) read(pos, n int) {
 	b.t.Helper()
-	want, e := "", api.OK
-	text := b.model.string()
+	want, text, e := "", "", api.OK
+	if b.model.open {
+		text = b.model.string()
+	}
 	switch {
 	case !b.model.open:
 		e = api.ErrClosed
@@ -188,6 +249,19 @@ func TestP1FirstErrorIsTheAnswer(t *testing.T) {
 	b = loaded(t, 100, 5, 100, 1, "abc", 2, "K")
 	b.open(api.ErrSpoilt)
 	b.load(api.ErrArg, filesOf(-1, ""))
+	b = opened(t, 5, 5, 30) // where the disk would refuse and stop, and errors that stand ahead apply
+	b.refuse(api.OK, 0)
+	b.crash(api.OK, 0, 0, 0)
+	b.insert(api.ErrPos, 1, "a")
+	b.insert(api.ErrText, 0, "")
+	b.insert(api.ErrLong, 0, "123456")
+	b.delete(api.ErrPos, 0, 1)
+	b.undo(api.ErrNothing)
+	b.insert(api.ErrNoSpace, 0, "a")
+	b.insert(api.ErrReadOnly, 1, "a")
+	b.reopen()
+	b.insert(api.ErrCrashed, 0, "a")
+	b.insert(api.ErrClosed, 1, "a")
 }
 
 // TestP1NothingBesideAnError looks at the other results.

@@ -18,8 +18,49 @@ func TestP2StoresBesideOneAnother(t *testing.T) {
 	for range 3000 {
 		all[r.Intn(len(all))].anyCall(r)
 	}
+	for range 6000 {
+		b := all[r.Intn(len(all))]
+		b.anyFault(r)
+		b.anyCall(r)
+	}
 	for _, b := range all {
 		b.same()
+	}
+}
+
+// TestP2CrashAndRefuseOfOneStoreAlone: each store has its own.
+func TestP2CrashAndRefuseOfOneStoreAlone(t *testing.T) {
+	var all []*both
+	for i := range 8 {
+		b := opened(t, 100, 5, 1000)
+		b.insert(api.OK, 0, "0123456789")
+		if i%2 == 0 {
+			b.refuse(api.OK, i)
+		} else {
+			b.crash(api.OK, i, i, i)
+		}
+		all = append(all, b)
+	}
+	for round := range 8 {
+		for i, b := range all {
+			switch {
+			case round < i:
+				b.delete(api.OK, 0, 1)
+				b.insert(api.ErrPos, -1, "")
+				if i%2 == 0 {
+					b.sync(api.OK)
+				}
+			case round > i:
+				b.insert(api.OK, 0, "more")
+			case i%2 == 0:
+				b.delete(api.ErrNoSpace, 0, 1)
+				b.reopen()
+			default:
+				b.sync(api.ErrCrashed)
+				b.has(1, "0123456789"[:i], 10, record("I", 1, 0, 0, 10)[:i])
+				b.open(api.OK)
+			}
+		}
 	}
 }
 
@@ -28,11 +69,13 @@ func TestP2AnswersHangOnCallsAlone(t *testing.T) {
 	first := opened(t, 80, 3, 3000)
 	second := opened(t, 80, 3, 3000)
 	r := rand.New(rand.NewSource(3))
-	for range 200 {
+	for range 400 {
+		first.anyFault(r)
 		first.anyCall(r)
 	}
 	r = rand.New(rand.NewSource(3))
-	for range 200 {
+	for range 400 {
+		second.anyFault(r)
 		second.anyCall(r)
 	}
 	if !slices.Equal(first.store.Image(), second.store.Image()) {

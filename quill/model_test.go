@@ -8,10 +8,10 @@ import (
 )
 
 // model is what a store should be, with plain lists and texts: no tree, no
-// table, and the whole disk as a map of texts.
+// table, and a plain disk.
 type model struct {
-	most, depth, room     int
-	files                 map[int]string
+	*plainDisk
+	most, depth           int
 	open, readOnly        bool
 	epoch, done, buffered int
 	text                  []api.Piece
@@ -19,7 +19,7 @@ type model struct {
 }
 
 func newModel(most, depth, room int) *model {
-	return &model{most: most, depth: depth, room: room, files: map[int]string{}}
+	return &model{plainDisk: newPlainDisk(room), most: most, depth: depth}
 }
 
 // swapped is the list with n bytes from pos on replaced by other pieces, and what went.
@@ -77,18 +77,16 @@ func (m *model) mayWrite() api.Errno {
 	return api.OK
 }
 
-// append tells whether the disk did it.
-func (m *model) append(number int, bytes string) bool {
-	used := len(bytes)
-	for _, b := range m.files {
-		used += len(b)
-	}
-	if used > m.room {
+// steps has the disk do these.
+func (m *model) steps(all ...step) api.Errno {
+	e := m.run(all)
+	switch e {
+	case api.ErrNoSpace:
 		m.readOnly = true
-		return false
+	case api.ErrCrashed:
+		m.open = false
 	}
-	m.files[number] += bytes
-	return true
+	return e
 }
 
 // would is the model as it will be behind a change, or why that may not be.
@@ -153,20 +151,52 @@ func (m *model) change(letter string, pos, n int, text string) api.Errno {
 	if e != api.OK {
 		return e
 	}
+	var steps []step
 	written := record(letter, next.done, 0, 0, 0)
 	switch letter {
 	case "I":
+		steps = append(steps, step{what: "append", number: 1, bytes: text})
 		written = record(letter, next.done, pos, len(m.files[1]), n)
-		if !m.append(1, text) {
-			return api.ErrNoSpace
-		}
 	case "D":
 		written = record(letter, next.done, pos, n, 0)
 	}
-	if !m.append(10+m.epoch, written) {
-		return api.ErrNoSpace
+	steps = append(steps, step{what: "append", number: 10 + m.epoch, bytes: written})
+	if e := m.steps(steps...); e != api.OK {
+		return e
 	}
 	*m = *next
+	return api.OK
+}
+
+func (m *model) sync() api.Errno {
+	if e := m.mayWrite(); e != api.OK {
+		return e
+	}
+	journal := step{what: "flush", number: 10 + m.epoch}
+	return m.steps(append(m.there(step{what: "flush", number: 1}), m.there(journal)...)...)
+}
+
+func (m *model) close() api.Errno {
+	if !m.open {
+		return api.ErrClosed
+	}
+	m.open = false
+	return api.OK
+}
+
+func (m *model) willCrash(after, one, rest int) api.Errno {
+	if after < 0 || one < 0 || rest < 0 {
+		return api.ErrArg
+	}
+	m.crash, m.one, m.rest = after, one, rest
+	return api.OK
+}
+
+func (m *model) willRefuse(after int) api.Errno {
+	if after < 0 {
+		return api.ErrArg
+	}
+	m.refuse = after
 	return api.OK
 }
 
@@ -174,35 +204,7 @@ func (m *model) load(files []api.File) api.Errno {
 	if m.open {
 		return api.ErrOpen
 	}
-	sum := 0
-	for i, f := range files {
-		sum += len(f.Bytes)
-		if f.Number < 0 || f.Bytes == "" || i > 0 && f.Number <= files[i-1].Number {
-			return api.ErrArg
-		}
-	}
-	if len(files) > 40 || sum > m.room {
-		return api.ErrArg
-	}
-	m.files = map[int]string{}
-	for _, f := range files {
-		m.files[f.Number] = f.Bytes
-	}
-	return api.OK
-}
-
-func (m *model) image() []api.File {
-	var out []api.File
-	for number, bytes := range m.files {
-		out = append(out, api.File{Number: number, Bytes: bytes})
-	}
-	slices.SortFunc(out, func(a, b api.File) int {
-		if a.Number < b.Number {
-			return -1
-		}
-		return 1
-	})
-	return out
+	return m.plainDisk.load(files)
 }
 
 func (m *model) openUp() api.Errno {
@@ -220,15 +222,19 @@ func (m *model) openUp() api.Errno {
 		m.redo = c.redo[:min(len(c.redo), m.depth)]
 	}
 	right := m.replay()
-	for number := range m.files {
-		if number != 1 && number != 2 && number != 10+m.epoch {
-			delete(m.files, number)
+	var steps []step
+	for _, f := range m.image() {
+		if f.Number != 1 && f.Number != 2 && f.Number != 10+m.epoch {
+			steps = append(steps, step{what: "remove", number: f.Number})
 		}
 	}
-	m.cut(10+m.epoch, right)
-	m.cut(1, m.buffered)
-	m.open, m.readOnly = true, false
-	return api.OK
+	steps = append(steps, m.shorten(10+m.epoch, right)...)
+	steps = append(steps, m.shorten(1, m.buffered)...)
+	e := m.steps(steps...)
+	if e == api.OK {
+		m.open, m.readOnly = true, false
+	}
+	return e
 }
 
 // replay makes the changes of the journal, and tells how many bytes of it were right.
@@ -263,15 +269,6 @@ func (m *model) replay() int {
 			return right
 		}
 		*m = *next
-	}
-}
-
-func (m *model) cut(number, n int) {
-	if len(m.files[number]) > n {
-		m.files[number] = m.files[number][:n]
-	}
-	if n == 0 {
-		delete(m.files, number)
 	}
 }
 

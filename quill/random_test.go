@@ -26,12 +26,32 @@ func (b *both) anyCall(r *rand.Rand) {
 		b.agree("Redo", b.model.change("R", 0, 0, ""), b.store.Redo())
 	case 12:
 		b.read(pos, r.Intn(8)-1)
-		b.agree("Sync", b.model.mayWrite(), b.store.Sync())
+		b.agree("Sync", b.model.sync(), b.store.Sync())
 	case 13:
 		b.agree("Open", b.model.openUp(), b.store.Open())
 		if r.Intn(2) == 0 {
-			b.close(api.OK)
+			b.agree("Close", b.model.close(), b.store.Close())
 		}
+	}
+	b.same()
+}
+
+// anyFault asks for a crash or a refusal now and then, and opens a store that
+// is closed.
+func (b *both) anyFault(r *rand.Rand) {
+	b.t.Helper()
+	switch r.Intn(12) {
+	case 0:
+		after, one, rest := r.Intn(9)-1, r.Intn(9)-1, r.Intn(90)-1
+		b.agree("Crash", b.model.willCrash(after, one, rest), b.store.Crash(after, one, rest))
+	case 1:
+		after := r.Intn(9) - 1
+		b.agree("Refuse", b.model.willRefuse(after), b.store.Refuse(after))
+	case 2, 3, 4:
+		if b.model.readOnly {
+			b.agree("Close", b.model.close(), b.store.Close())
+		}
+		b.agree("Open", b.model.openUp(), b.store.Open())
 	}
 	b.same()
 }
@@ -52,6 +72,33 @@ func TestP6ManyCalls(t *testing.T) {
 			b.anyCall(r)
 		}
 	}
+}
+
+// TestP10ManyFaults makes many calls with many crashes and refusals among them,
+// on disks of all sizes and with files of all kinds.
+func TestP10ManyFaults(t *testing.T) {
+	r := rand.New(rand.NewSource(9))
+	for range 150 {
+		b := opened(t, r.Intn(60), r.Intn(6), r.Intn(1500))
+		for range 100 {
+			b.anyFault(r)
+			b.anyCall(r)
+			if !b.model.open && r.Intn(4) == 0 {
+				b.loadMore(r)
+			}
+		}
+	}
+}
+
+// loadMore lays some other files beside those that are there, if there is room.
+func (b *both) loadMore(r *rand.Rand) {
+	b.t.Helper()
+	files := b.store.Image()
+	for range r.Intn(4) {
+		files = append(files, api.File{Number: 11 + len(files) + r.Intn(20), Bytes: strings.Repeat("x", 1+r.Intn(5))})
+	}
+	b.agree("Load", b.model.load(files), b.store.Load(files))
+	b.same()
 }
 
 // TestP12ManyDisks opens disks that some calls wrote, each with something wrong

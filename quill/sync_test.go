@@ -51,3 +51,17 @@ func TestP8SyncOfOneFileAlone(t *testing.T) {
 	b.sync(api.OK)
 	b.has(2, file)
 }
+
+// TestP8SyncOfAnotherEpoch flushes the journal of that one.
+func TestP8SyncOfAnotherEpoch(t *testing.T) {
+	file := saved{epoch: 7, done: 3, buffered: 2, text: of(0, 2)}.bytes()
+	b := loaded(t, 100, 5, 1000, 1, "ab", 2, file)
+	b.open(api.OK)
+	b.insert(api.OK, 0, "cde")
+	b.crash(api.OK, 2, 0, 0)
+	b.sync(api.OK)
+	b.undo(api.ErrCrashed)
+	b.has(1, "abcde", 2, file, 17, record("I", 4, 0, 2, 3))
+	b.open(api.OK)
+	b.is("cdeab", 4)
+}
