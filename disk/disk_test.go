@@ -60,6 +60,7 @@ func TestP12StepsOfNoFile(t *testing.T) {
 	d.Crash(0, 0, 0)
 	does(t, d.Flush(1))
 	does(t, d.Cut(1, 1))
+	does(t, d.Move(1, 2))
 	does(t, d.Remove(1))
 	has(t, d)
 	stops(t, d.Append(1, []byte("a")), "append to", 1)
@@ -83,6 +84,7 @@ func TestP10EachStep(t *testing.T) {
 		"append to": func(d *disk.Disk) error { return d.Append(7, []byte("xyz")) },
 		"flush":     func(d *disk.Disk) error { return d.Flush(7) },
 		"cut":       func(d *disk.Disk) error { return d.Cut(7, 1) },
+		"move":      func(d *disk.Disk) error { return d.Move(7, 2) },
 		"remove":    func(d *disk.Disk) error { return d.Remove(7) },
 	} {
 		d := disk.New(100)
@@ -125,4 +127,60 @@ func TestP9RefuseOfAnAppendAlone(t *testing.T) {
 	does(t, d.Append(1, []byte("d")))
 	does(t, d.Remove(1))
 	has(t, d)
+}
+
+// TestP8MoveTakesThePlace of what was there, if there was something, and its
+// own is free.
+func TestP8MoveTakesThePlace(t *testing.T) {
+	d := disk.New(12)
+	for _, number := range []int{1, 3, 5, 7} {
+		does(t, d.Append(number, []byte("abc")))
+	}
+	does(t, d.Cut(5, 2))
+	does(t, d.Move(5, 3))
+	has(t, d, api.File{Number: 1, Bytes: "abc"}, api.File{Number: 3, Bytes: "ab"}, api.File{Number: 7, Bytes: "abc"})
+	does(t, d.Move(3, 9))
+	does(t, d.Move(7, 0))
+	has(t, d, api.File{Number: 0, Bytes: "abc"}, api.File{Number: 1, Bytes: "abc"}, api.File{Number: 9, Bytes: "ab"})
+	does(t, d.Move(1, 1))
+	does(t, d.Move(5, 1)) // there is no such file
+	has(t, d, api.File{Number: 0, Bytes: "abc"}, api.File{Number: 1, Bytes: "abc"}, api.File{Number: 9, Bytes: "ab"})
+	if err := d.Append(5, []byte("abcde")); !errors.Is(err, disk.ErrRefused) {
+		t.Errorf("Append = %v, want a refusal", err)
+	}
+	does(t, d.Append(5, []byte("abcd"))) // as much as the move left
+}
+
+// TestP10WhatIsMovedStaysAsFlushed as it was, whatever was there; and the move lasts.
+func TestP10WhatIsMovedStaysAsFlushed(t *testing.T) {
+	for flushed := range 4 {
+		for _, there := range []int{0, 1, 4, 9} {
+			d := disk.New(100)
+			if there > 0 {
+				does(t, d.Append(2, []byte("123456789")[:there]))
+				does(t, d.Flush(2))
+			}
+			if flushed > 0 {
+				does(t, d.Append(3, []byte("abc")[:flushed]))
+				does(t, d.Flush(3))
+			}
+			does(t, d.Append(3, []byte("abcdef")[flushed:]))
+			does(t, d.Move(3, 2))
+			d.Crash(0, 0, 1)
+			stops(t, d.Move(2, 3), "move", 2)
+			has(t, d, api.File{Number: 2, Bytes: "abcdef"[:flushed+1]})
+		}
+	}
+}
+
+// TestP10OneIsOfTheNumber that a file has when the machine stops.
+func TestP10OneIsOfTheNumber(t *testing.T) {
+	d := disk.New(100)
+	does(t, d.Append(1, []byte("abcdef")))
+	does(t, d.Append(3, []byte("ghijkl")))
+	does(t, d.Move(1, 2))
+	does(t, d.Move(3, 1))
+	d.Crash(0, 2, 4)
+	stops(t, d.Flush(1), "flush", 1)
+	has(t, d, api.File{Number: 1, Bytes: "gh"}, api.File{Number: 2, Bytes: "abcd"})
 }

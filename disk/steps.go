@@ -45,6 +45,22 @@ func (d *Disk) Cut(number int, n int) error {
 	return d.stepOf("cut", number, func(i int) { d.files[i].cut(n) })
 }
 
+// Move gives a file another number, in place of what was there. It stays as
+// flushed as it was.
+func (d *Disk) Move(number int, to int) error {
+	return d.stepOf("move", number, func(i int) {
+		f := d.files[i]
+		d.files = slices.Delete(d.files, i, i+1)
+		f.number = to
+		j, there := d.find(to)
+		if there {
+			d.files[j] = f
+			return
+		}
+		d.files = slices.Insert(d.files, j, f)
+	})
+}
+
 // Remove takes a file away.
 func (d *Disk) Remove(number int) error {
 	return d.stepOf("remove", number, func(i int) { d.files = slices.Delete(d.files, i, i+1) })

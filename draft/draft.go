@@ -6,8 +6,8 @@ import (
 	"quill/pieces"
 )
 
-// State is what a draft can begin with. Of the edits of each kind the one that
-// would be undone, or done again, first stands ahead.
+// State is how a draft stands, and what one can begin with. Of the edits of
+// each kind the one that would be undone, or done again, first stands ahead.
 type State struct {
 	Done     int
 	Buffered int
@@ -40,6 +40,12 @@ func Restore(depth int, state State) *Draft {
 	}
 	d.apply(Edit{Came: state.Text})
 	return d
+}
+
+// State tells how the draft stands. The edits are the draft's own: the caller
+// changes nothing in them, and reads them ahead of the next change.
+func (d *Draft) State() State {
+	return State{Done: d.done, Buffered: d.buffered, Text: d.tree.Pieces(), Undo: d.undo, Redo: d.redo}
 }
 
 // Length tells how many bytes the text has.

@@ -2,6 +2,7 @@ package draft_test
 
 import (
 	"errors"
+	"reflect"
 	"testing"
 
 	"quill/api"
@@ -50,5 +51,21 @@ func TestP7AChangeThatIsNotWrittenIsNotDone(t *testing.T) {
 	undo := draft.Change{Letter: draft.Undo}
 	if err := d.Change(undo, 100, nothing); err != nil || d.Length() != 0 {
 		t.Errorf("Undo = %v, %d bytes stay", err, d.Length())
+	}
+}
+
+// TestP8TheStateIsWhatWasRestored, but for what goes beyond the depth.
+func TestP8TheStateIsWhatWasRestored(t *testing.T) {
+	state := draft.State{
+		Done: 7, Buffered: 9, Text: []api.Piece{{Off: 0, Len: 2}, {Off: 3, Len: 1}},
+		Undo: []draft.Edit{{Where: 1, Went: []api.Piece{{Off: 2, Len: 1}}, Came: []api.Piece{{Off: 1, Len: 1}}}, {Where: 3}},
+		Redo: []draft.Edit{{Where: 2}, {Where: 0, Came: []api.Piece{{Off: 4, Len: 2}, {Off: 5, Len: 1}}}, {Where: 1}},
+	}
+	for depth := range 4 {
+		want := state
+		want.Undo, want.Redo = state.Undo[:min(depth, 2)], state.Redo[:depth]
+		if got := draft.Restore(depth, state).State(); !reflect.DeepEqual(got, want) {
+			t.Errorf("with the depth %d the state is %v, want %v", depth, got, want)
+		}
 	}
 }

@@ -11,6 +11,39 @@ import (
 // ErrSpoilt is a file 2 that is no checkpoint.
 var ErrSpoilt = errors.New("file 2 is no checkpoint")
 
+// checkpoint is the bytes of a checkpoint that begins an epoch with that state.
+func checkpoint(epoch int, state draft.State) []byte {
+	b := []byte{'K'}
+	for _, n := range []int{epoch, state.Done, state.Buffered} {
+		b = appendNumber(b, n)
+	}
+	b = appendPieces(b, state.Text)
+	b = appendEdits(b, state.Undo)
+	b = appendEdits(b, state.Redo)
+	return wire.Seal(b)
+}
+
+func appendNumber(b []byte, n int) []byte { return wire.Append(b, uint32(n)) }
+
+func appendPieces(b []byte, list []api.Piece) []byte {
+	b = appendNumber(b, len(list))
+	for _, p := range list {
+		b = appendNumber(b, p.Off)
+		b = appendNumber(b, p.Len)
+	}
+	return b
+}
+
+func appendEdits(b []byte, list []draft.Edit) []byte {
+	b = appendNumber(b, len(list))
+	for _, e := range list {
+		b = appendNumber(b, e.Where)
+		b = appendPieces(b, e.Went)
+		b = appendPieces(b, e.Came)
+	}
+	return b
+}
+
 // readCheckpoint tells the epoch and the state that a checkpoint has, beside a
 // buffer of so many bytes.
 func readCheckpoint(b []byte, buffer int) (int, draft.State, error) {

@@ -2,6 +2,7 @@
 package ledger
 
 import (
+	"errors"
 	"strconv"
 	"strings"
 
@@ -14,6 +15,7 @@ import (
 const (
 	bufferFile     = 1
 	checkpointFile = 2
+	unfinishedFile = 3  // a checkpoint that is being written
 	journalFile    = 10 // of the epoch 0
 )
 
@@ -34,6 +36,9 @@ func at(where string, err error) error {
 	}
 	return &Error{where, err}
 }
+
+// ErrExhausted is a checkpoint behind which there would be no epoch.
+var ErrExhausted = errors.New("there is no further epoch")
 
 // Ledger is the files of a disk in some epoch.
 type Ledger struct {
@@ -63,6 +68,35 @@ func (l *Ledger) Sync() error {
 		}
 	}
 	return nil
+}
+
+// Checkpoint writes down how all stands, in place of the journal, and goes to
+// the next epoch.
+func (l *Ledger) Checkpoint(state draft.State) error {
+	const where = "checkpoint"
+	if l.epoch >= api.MaxEpoch {
+		return at(where, ErrExhausted)
+	}
+	for _, step := range l.stepsTo(checkpoint(l.epoch+1, state)) {
+		if err := step(); err != nil {
+			return at(where, err)
+		}
+	}
+	l.epoch++
+	return nil
+}
+
+// stepsTo is the steps by which a checkpoint takes the place of the one that is
+// there, and of the journal. Up to the move all can still be read as it was;
+// from there on the journal is one of an earlier epoch, and not asked any more.
+func (l *Ledger) stepsTo(file []byte) [5]func() error {
+	return [5]func() error{
+		func() error { return l.disk.Flush(bufferFile) },
+		func() error { return l.disk.Append(unfinishedFile, file) },
+		func() error { return l.disk.Flush(unfinishedFile) },
+		func() error { return l.disk.Move(unfinishedFile, checkpointFile) },
+		func() error { return l.disk.Remove(l.journal()) },
+	}
 }
 
 // Text tells the bytes of pieces of the buffer, one behind the other.

@@ -66,6 +66,95 @@ func TestP10ACrashSaysWhere(t *testing.T) {
 	}
 }
 
+// TestP8ACheckpointSaysWhere: what went wrong with it, and at which step.
+func TestP8ACheckpointSaysWhere(t *testing.T) {
+	steps := []string{"flush file 1", "append to file 3", "flush file 3", "move file 3", "remove file 10"}
+	for after, step := range steps {
+		d, l := saving(t, 100)
+		d.Crash(after, 0, 0)
+		err := l.Checkpoint(draft.State{Done: 1, Buffered: 3})
+		says(t, err, disk.ErrStopped, "checkpoint: "+step+": the machine stops ahead of it")
+	}
+	d, l := saving(t, 100)
+	d.Refuse(0)
+	says(t, l.Checkpoint(draft.State{}), disk.ErrRefused, "checkpoint: append to file 3: the disk refuses it")
+	_, l = saving(t, 25+28)
+	says(t, l.Checkpoint(draft.State{}), disk.ErrRefused, "checkpoint: append to file 3: the disk refuses it")
+	_, l = saving(t, 25+29)
+	if err := l.Checkpoint(draft.State{}); err != nil {
+		t.Errorf("Checkpoint with just the room = %v", err)
+	}
+}
+
+// saving is a disk with a buffer and a journal, and its ledger.
+func saving(t *testing.T, room int) (*disk.Disk, *ledger.Ledger) {
+	t.Helper()
+	d := disk.New(room)
+	l, _, err := ledger.Open(d, 3)
+	if err != nil {
+		t.Fatal(err)
+	}
+	if err := l.Write(1, draft.Change{Letter: draft.Insert, Numbers: [3]int{0, 0, 3}}, "abc"); err != nil {
+		t.Fatal(err)
+	}
+	return d, l
+}
+
+// says looks that an error is this one, wrapped by both layers, and what it tells.
+func says(t *testing.T, err error, is error, want string) {
+	t.Helper()
+	var at *ledger.Error
+	var step *disk.StepError
+	if !errors.As(err, &at) || !errors.As(err, &step) || !errors.Is(err, is) {
+		t.Fatalf("the error is %v, want %v, wrapped twice", err, is)
+	}
+	if errors.Is(err, ledger.ErrExhausted) || err.Error() != want {
+		t.Errorf("the error is %q, want %q", err, want)
+	}
+}
+
+// TestP9ARefusedCheckpointLeavesTheEpoch: the journal is the same, and the next
+// checkpoint that of the same epoch.
+func TestP9ARefusedCheckpointLeavesTheEpoch(t *testing.T) {
+	d, l := saving(t, 200)
+	d.Refuse(0)
+	says(t, l.Checkpoint(draft.State{}), disk.ErrRefused, "checkpoint: append to file 3: the disk refuses it")
+	if err := l.Write(2, draft.Change{Letter: draft.Undo}, ""); err != nil {
+		t.Fatal(err)
+	}
+	if n := d.Length(10); n != 44 || len(d.Image()) != 2 {
+		t.Errorf("the journal has %d bytes, want 44, and there are %d files", n, len(d.Image()))
+	}
+	if err := l.Checkpoint(draft.State{}); err != nil {
+		t.Fatal(err)
+	}
+	if got := string(d.Bytes(2)[:5]); got != "K\x00\x00\x00\x01" || len(d.Image()) != 2 {
+		t.Errorf("the checkpoint begins with %q, and there are %d files", got, len(d.Image()))
+	}
+}
+
+// TestP8TheLastEpochSaysSo: it is no error of the disk, which does no step.
+func TestP8TheLastEpochSaysSo(t *testing.T) {
+	d := disk.New(100)
+	l, _, err := ledger.Open(d, 3)
+	for range api.MaxEpoch {
+		if err == nil {
+			err = l.Checkpoint(draft.State{})
+		}
+	}
+	if err != nil {
+		t.Fatal(err)
+	}
+	d.Crash(0, 0, 0)
+	err = l.Checkpoint(draft.State{})
+	if !errors.Is(err, ledger.ErrExhausted) || errors.Is(err, disk.ErrStopped) || errors.Is(err, disk.ErrRefused) {
+		t.Fatalf("Checkpoint = %v, want that there is no further epoch", err)
+	}
+	if want := "checkpoint: there is no further epoch"; err.Error() != want {
+		t.Errorf("the error is %q, want %q", err, want)
+	}
+}
+
 // TestP12ASpoiltCheckpointSaysWhere has the check sum be wrong.
 func TestP12ASpoiltCheckpointSaysWhere(t *testing.T) {
 	d := disk.New(100)

@@ -123,6 +123,11 @@ func (b *both) sync(want api.Errno) {
 	b.check("Sync", b.store.Sync(), b.model.sync(), want)
 }
 
+func (b *both) checkpoint(want api.Errno) {
+	b.t.Helper()
+	b.check("Checkpoint", b.store.Checkpoint(), b.model.checkpoint(), want)
+}
+
 func (b *both) crash(want api.Errno, after, one, rest int) {
 	b.t.Helper()
 	b.check("Crash", b.store.Crash(after, one, rest), b.model.willCrash(after, one, rest), want)
@@ -230,9 +235,12 @@ func changes() []call {
 		{"Undo", 1, 0, func(b *both, want api.Errno) { b.undo(want) }},
 		{"Sync", 0, 2, func(b *both, want api.Errno) { b.sync(want) }},
 		{"Redo", 1, 0, func(b *both, want api.Errno) { b.redo(want) }},
+		{"Checkpoint", 1, 4, func(b *both, want api.Errno) { b.checkpoint(want) }},
 		{"Undo again", 1, 0, func(b *both, want api.Errno) { b.undo(want) }},
 		{"Insert over it", 2, 0, func(b *both, want api.Errno) { b.insert(want, 8, "!") }},
 		{"Sync again", 0, 2, func(b *both, want api.Errno) { b.sync(want) }},
+		{"Checkpoint again", 1, 4, func(b *both, want api.Errno) { b.checkpoint(want) }},
+		{"Checkpoint without a journal", 1, 3, func(b *both, want api.Errno) { b.checkpoint(want) }},
 	}
 }
 

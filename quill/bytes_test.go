@@ -120,6 +120,7 @@ func (b *both) refused(text string, done int) {
 	b.undo(api.ErrReadOnly)
 	b.redo(api.ErrReadOnly)
 	b.sync(api.ErrReadOnly)
+	b.checkpoint(api.ErrReadOnly)
 	b.open(api.ErrOpen)
 	b.load(api.ErrOpen, nil)
 	b.read(0, len(text))

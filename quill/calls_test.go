@@ -42,7 +42,8 @@ func TestP1New(t *testing.T) {
 	}
 }
 
-// places is stores of all kinds: closed, empty, with a text, read-only, spoilt.
+// places is stores of all kinds: closed, empty, with a text, behind a
+// checkpoint, in the last epoch, read-only, spoilt.
 func places(t *testing.T) map[string]*both {
 	t.Helper()
 	text := opened(t, 100, 5, 10000)
@@ -50,6 +51,11 @@ func places(t *testing.T) map[string]*both {
 	text.delete(api.OK, 1, 2)
 	text.insert(api.OK, 1, "xyz")
 	text.undo(api.OK)
+	saved := opened(t, 100, 5, 10000)
+	saved.insert(api.OK, 0, "hello")
+	saved.delete(api.OK, 1, 2)
+	saved.undo(api.OK)
+	saved.checkpoint(api.OK)
 	full := opened(t, 100, 5, 60)
 	full.insert(api.OK, 0, "hello")
 	full.delete(api.OK, 1, 2)
@@ -61,7 +67,7 @@ func places(t *testing.T) map[string]*both {
 	over.close(api.OK)
 	return map[string]*both{
 		"new": closed(t, 100, 5, 10000), "empty": opened(t, 100, 5, 10000), "least": opened(t, 0, 0, 0),
-		"text": text, "read-only": full, "spoilt": spoilt, "closed again": over,
+		"text": text, "read-only": full, "spoilt": spoilt, "closed again": over, "saved": saved, "last epoch": lastEpoch(t, 10000),
 	}
 }
 
@@ -112,7 +118,7 @@ func TestP1AllNumbersOfCrashAndRefuse(t *testing.T) {
 
 // TestP1CrashesOfAllNumbers has each of them come, as far as it may.
 func TestP1CrashesOfAllNumbers(t *testing.T) {
-	for _, after := range []int{0, 1, 2, 3, math.MaxInt} {
+	for _, after := range []int{0, 1, 2, 3, 4, 5, 6, 7, math.MaxInt} {
 		for _, one := range numbers() {
 			for _, rest := range numbers() {
 				b := opened(t, 100, 5, 1000)
@@ -121,6 +127,7 @@ func TestP1CrashesOfAllNumbers(t *testing.T) {
 				for range 2 {
 					b.agree("Delete", b.model.change("D", 0, 1, ""), b.store.Delete(0, 1))
 					b.agree("Sync", b.model.sync(), b.store.Sync())
+					b.agree("Checkpoint", b.model.checkpoint(), b.store.Checkpoint())
 					b.agree("Open", b.model.openUp(), b.store.Open())
 					b.same()
 				}
@@ -223,6 +230,7 @@ func TestP1FirstErrorIsTheAnswer(t *testing.T) {
 		b.undo(api.ErrClosed)
 		b.redo(api.ErrClosed)
 		b.sync(api.ErrClosed)
+		b.checkpoint(api.ErrClosed)
 		b.close(api.ErrClosed)
 		b.read(-1, -1)
 	}
@@ -232,6 +240,7 @@ func TestP1FirstErrorIsTheAnswer(t *testing.T) {
 	b.undo(api.ErrReadOnly)
 	b.redo(api.ErrReadOnly)
 	b.sync(api.ErrReadOnly)
+	b.checkpoint(api.ErrReadOnly)
 	b.open(api.ErrOpen)
 	b.load(api.ErrOpen, make([]api.File, 41))
 	b = all["text"] // 3 bytes of 100

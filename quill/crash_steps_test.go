@@ -7,12 +7,12 @@ import (
 	"quill/api"
 )
 
-// TestP10EachStep has the machine stop ahead of each of the 14 steps of all
+// TestP10EachStep has the machine stop ahead of each of the 28 steps of all
 // calls once, with some of the bytes staying. Until then nothing is seen of it.
 func TestP10EachStep(t *testing.T) {
-	for after := range 14 {
+	for after := range 28 {
 		for _, one := range []int{0, 1, 4, 5, 6, 8, many} {
-			for _, rest := range []int{0, 1, 21, 22, 23, 43, 44, 45, many} {
+			for _, rest := range []int{0, 1, 21, 22, 23, 43, 44, 45, 100, many} {
 				crashOnce(t, after, one, rest)
 			}
 		}

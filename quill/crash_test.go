@@ -58,6 +58,7 @@ func (b *both) isClosed() {
 	b.undo(api.ErrClosed)
 	b.redo(api.ErrClosed)
 	b.sync(api.ErrClosed)
+	b.checkpoint(api.ErrClosed)
 	b.close(api.ErrClosed)
 	b.tellsNothing()
 }

@@ -176,6 +176,29 @@ func (m *model) sync() api.Errno {
 	return m.steps(append(m.there(step{what: "flush", number: 1}), m.there(journal)...)...)
 }
 
+func (m *model) checkpoint() api.Errno {
+	if e := m.mayWrite(); e != api.OK {
+		return e
+	}
+	if m.epoch == 999 {
+		return api.ErrExhausted
+	}
+	steps := m.there(step{what: "flush", number: 1})
+	steps = append(steps, step{what: "append", number: 3, bytes: m.saved().bytes()},
+		step{what: "flush", number: 3}, step{what: "move", number: 3, to: 2})
+	steps = append(steps, m.there(step{what: "remove", number: 10 + m.epoch})...)
+	e := m.steps(steps...)
+	if e == api.OK {
+		m.epoch++
+	}
+	return e
+}
+
+// saved is the checkpoint that the model would write.
+func (m *model) saved() saved {
+	return saved{m.epoch + 1, m.done, len(m.files[1]), m.text, m.undo, m.redo}
+}
+
 func (m *model) close() api.Errno {
 	if !m.open {
 		return api.ErrClosed

@@ -28,6 +28,7 @@ type step struct {
 	number int
 	bytes  string // of an append
 	length int    // to which a file is cut
+	to     int    // the number to which a file is moved
 }
 
 // run does steps one after the other, up to one that is refused, or to a crash.
@@ -71,6 +72,10 @@ func (d *plainDisk) do(s step) {
 	case "cut":
 		d.files[s.number] = d.files[s.number][:s.length]
 		d.flushed[s.number] = s.length
+	case "move":
+		d.files[s.to], d.flushed[s.to] = d.files[s.number], d.flushed[s.number]
+		delete(d.files, s.number)
+		delete(d.flushed, s.number)
 	case "remove":
 		delete(d.files, s.number)
 		delete(d.flushed, s.number)

@@ -1,7 +1,9 @@
 package quill_test
 
 import (
+	"cmp"
 	"math/rand"
+	"slices"
 	"strings"
 	"testing"
 
@@ -13,7 +15,7 @@ func (b *both) anyCall(r *rand.Rand) {
 	b.t.Helper()
 	size := sizeOf(b.model.text)
 	pos := r.Intn(size+3) - 1
-	switch r.Intn(14) {
+	switch r.Intn(15) {
 	case 0, 1, 2, 3:
 		text := strings.Repeat(string(rune('a'+r.Intn(26))), r.Intn(6))
 		b.agree("Insert", b.model.change("I", pos, len(text), text), b.store.Insert(pos, text))
@@ -32,6 +34,8 @@ func (b *both) anyCall(r *rand.Rand) {
 		if r.Intn(2) == 0 {
 			b.agree("Close", b.model.close(), b.store.Close())
 		}
+	case 14:
+		b.agree("Checkpoint", b.model.checkpoint(), b.store.Checkpoint())
 	}
 	b.same()
 }
@@ -42,7 +46,7 @@ func (b *both) anyFault(r *rand.Rand) {
 	b.t.Helper()
 	switch r.Intn(12) {
 	case 0:
-		after, one, rest := r.Intn(9)-1, r.Intn(9)-1, r.Intn(90)-1
+		after, one, rest := r.Intn(9)-1, r.Intn(9)-1, r.Intn(200)-1
 		b.agree("Crash", b.model.willCrash(after, one, rest), b.store.Crash(after, one, rest))
 	case 1:
 		after := r.Intn(9) - 1
@@ -95,7 +99,11 @@ func (b *both) loadMore(r *rand.Rand) {
 	b.t.Helper()
 	files := b.store.Image()
 	for range r.Intn(4) {
-		files = append(files, api.File{Number: 11 + len(files) + r.Intn(20), Bytes: strings.Repeat("x", 1+r.Intn(5))})
+		number := r.Intn(20)
+		at, there := slices.BinarySearchFunc(files, number, func(f api.File, n int) int { return cmp.Compare(f.Number, n) })
+		if !there && number != 2 {
+			files = slices.Insert(files, at, api.File{Number: number, Bytes: strings.Repeat("x", 1+r.Intn(5))})
+		}
 	}
 	b.agree("Load", b.model.load(files), b.store.Load(files))
 	b.same()
@@ -118,7 +126,7 @@ func TestP12ManyDisks(t *testing.T) {
 		}
 		other := closed(t, r.Intn(60), r.Intn(5), 4000)
 		other.load(api.OK, files)
-		other.open(api.OK)
+		other.open(other.model.mayOpen())
 		for range 15 {
 			other.anyCall(r)
 		}

@@ -43,10 +43,10 @@ func TestP9TheExample(t *testing.T) {
 	b.undoes()
 }
 
-// TestP9EachAppend has each of the 10 appends of all calls be refused once.
+// TestP9EachAppend has each of the 13 appends of all calls be refused once.
 // Until then nothing is seen of it, and behind Close and Open all goes on.
 func TestP9EachAppend(t *testing.T) {
-	for after := range 10 {
+	for after := range 13 {
 		b, beside := opened(t, 100, 5, 1000), opened(t, 100, 5, 1000)
 		b.refuse(api.OK, after)
 		left := after
